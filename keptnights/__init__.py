@@ -1,0 +1,1 @@
+"""Keptnights: a chain of hotels, and what is kept in every course."""

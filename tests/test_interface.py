@@ -1,0 +1,96 @@
+"""The interface: where its functions, classes, methods and properties stand, and their parameters."""
+
+import importlib
+import inspect
+
+from tests.support import Case
+
+FUNCTIONS = {
+    "dates": "night_of(year, month, day) date_of(night) weekday(night) month_span(year, month) date_text(night)"
+             " read_date(text) next_weekday(night, day)",
+    "spans": "span_length(span) has_night(span, night) is_within(inner, outer) meeting(one, two) are_apart(one, two)"
+             " nights_of(span) arrival_order(spans) turning_nights(spans) hull(spans) longer(span, by)"
+             " sorted_spans(spans)",
+    "loads": "load(spans, night) load_steps(spans) peak(spans) first_over(spans, rooms) over_spans(spans, rooms)"
+             " nights_sold(spans) load_row(spans, first, leave)",
+    "roomplans": "least_rooms(spans) room_plan(spans, rooms) is_room_plan(spans, rooms, plan)"
+                 " spans_in_room(spans, plan, room) free_rooms(spans, plan, rooms, span)"
+                 " fits_locked(spans, plan, rooms, span) fits_open(spans, rooms, span)"
+                 " openings(spans, rooms, length, first, leave)",
+    "arrivals": "are_settled(night, guests, rooms) rooms_free_on(taken, rooms, night)"
+                " given_rooms(guests, spans, rooms, choice=0) first_stuck(guests, spans, rooms)"
+                " is_given(guests, spans, rooms, plan)",
+    "tails": "can_exchange(spans, plan, morning, one, two) exchanged(spans, plan, morning, one, two)"
+             " tail_way(spans, rooms, one, other) is_tail_way(spans, rooms, one, other, way)"
+             " closer_plan(spans, one, wishes)",
+    "upkeep": "upkeep_plan(counts, jobs) is_upkeep_plan(counts, jobs, plan) is_upkeep_bar(counts, jobs, span)"
+              " upkeep_bar(counts, jobs) spare_nights(counts, jobs) latest_plan(counts, jobs)",
+    "kinds": "slacks(kinds, wants) spare_rooms(kinds, wants) over_guests(kinds, wants)",
+    "seatings": "seat_bar(kinds, wants) seating(kinds, wants) is_seating(kinds, wants, seats) upgrades(seats)"
+                " upgrade_steps(kinds, seats) fewest_upgrades(kinds, wants) carries(kinds, wants)"
+                " fewest_steps(kinds, wants)",
+    "selling": "more_of(kinds, wants, name) open_counts(kinds, wants) can_take(kinds, wants, more)"
+               " dearest_taken(kinds, wants, offers, pays) pay_of(taken, pays) tight_kind(kinds, wants, name)"
+               " room_worth(kinds, wants, offers, pays, name)",
+    "kindnights": "wants_at(kinds, bookings, night) spans_booked(bookings) first_barred(kinds, bookings)"
+                  " all_nights(bookings) upgrades_over(kinds, bookings) seatings_over(kinds, bookings)"
+                  " more_over(kinds, bookings, name, span) narrow_nights(kinds, bookings, span)"
+                  " slack_rows(kinds, bookings, span)",
+    "networks": "covers_of(size, spans, chosen)",
+    "papers": "least_choice(lows, highs, spans, costs) price_of(span, ups, downs) flags_of(size, chosen)"
+              " is_choice(lows, highs, spans, chosen) is_paper(lows, highs, spans, costs, chosen, ups, downs)"
+              " paper_value(lows, highs, spans, costs, ups, downs) is_cut(lows, highs, spans, plus, minus)",
+    "groups": "is_coming(group, pairs) stays_of(group, pairs)",
+    "channels": "is_sale(channel, spans)",
+}
+
+CLASSES = {
+    "nightsets.Nights": ("(spans)", "covers(span) on_weekdays(days) gaps() __len__() __iter__() __eq__(other)"
+                                    " __contains__(x) __or__(other) __and__(other) __sub__(other)", ""),
+    "kinds.Kinds": ("(pairs)", "place(name) without_rooms(name, many) __len__() __iter__() __eq__(other)"
+                               " __contains__(x)", "names room_counts"),
+    "papers.Choice": ("(chosen, cost, ups, downs, plus, minus)", "", ""),
+    "groups.Group": ("(name, spans, least, most, late_guests=0, late_nights=0)",
+                     "fields() there(night) staying_on(night) worst(night) worst_comers(night) __len__()"
+                     " __eq__(other)", ""),
+    "channels.Channel": ("(name, counts, least_stay=1)", "fields() at(night) back(night, reach) ahead(night, reach)"
+                                                         " worst(night) worst_sales(night) __eq__(other)", ""),
+    "plans.Plan": ("(rooms, annex, singles, groups=(), channels=(), upkeep=(), annex_stays=())",
+                   "fields() nights() worst(night) annex_load(night) needs() free() stays() __eq__(other)", ""),
+}
+
+
+def forms_of(text):
+    """The names and parameters of a text like `one(a, b) two(c=0)`."""
+    return [(form[:form.index("(")], form[form.index("("):] + ")") for form in text.split(")")[:-1]
+            for form in [form.strip()]]
+
+
+def module_of(name):
+    return importlib.import_module("keptnights." + name)
+
+
+class TestInterface(Case):
+    def test_functions_stand_in_their_files(self):
+        for file, text in FUNCTIONS.items():
+            for name, parameters in forms_of(text):
+                function = getattr(module_of(file), name)
+                self.assertEqual(str(inspect.signature(function)), parameters, name)
+                self.assertEqual(function.__module__, "keptnights." + file)
+
+    def test_classes_and_their_methods_stand_in_their_files(self):
+        for place, (parameters, methods, properties) in CLASSES.items():
+            file, name = place.split(".")
+            made = getattr(module_of(file), name)
+            self.assertEqual(made.__module__, "keptnights." + file)
+            self.assertEqual(str(inspect.signature(made)), parameters)
+            for method, rest in forms_of(methods):
+                own = list(inspect.signature(vars(made)[method]).parameters.values())[1:]
+                self.assertEqual("(" + ", ".join(str(one) for one in own) + ")", rest, method)
+            for own in properties.split():
+                self.assertIsInstance(vars(made)[own], property)
+
+    def test_the_package_is_nothing_but_a_docstring(self):
+        package = importlib.import_module("keptnights")
+        source = inspect.getsource(package).strip()
+        self.assertTrue(source.startswith('"""') and source.endswith('"""') and source.count('"""') == 2)
