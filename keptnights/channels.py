@@ -100,6 +100,6 @@ def is_sale(channel, spans):
     steps = load_steps(spans)
     for k in range(len(steps) - 1):
         night, many = steps[k]
-        if many > 0 and many > least_number(channel.counts, (night, steps[k + 1][0])):
+        if many > least_number(channel.counts, (night, steps[k + 1][0])):
             return False
     return True

@@ -14,8 +14,8 @@ class Network:
     """Nodes and arcs between them; flow that is left over at some nodes is lacking at others.
 
     Arcs come in pairs: what is pushed along arc 2k can be pushed back along arc 2k + 1. The
-    prices of nodes always show that the flow costs least among those with the same excess: no
-    arc with room left has a price ahead of it that is more than its cost below the one behind.
+    prices of nodes show that no flow with the same excess costs less: along an arc that can
+    take more, the price never rises by more than the cost of the arc.
     """
 
     def __init__(self, size):
@@ -74,12 +74,11 @@ class Network:
             way.append(last[start])
             start = self.tails[last[start]]
         many = min([self.excess[start], -self.excess[node]] + [self.spare[arc] for arc in way])
-        if many > 0:
-            self.flow_in(start, node, many)
-            for arc in way:
-                self.spare[arc] -= many
-                # The other arc of the pair.
-                self.spare[arc ^ 1] += many
+        self.flow_in(start, node, many)
+        for arc in way:
+            self.spare[arc] -= many
+            # The other arc of the pair.
+            self.spare[arc ^ 1] += many
 
     def settle(self):
         """Push all excess to where flow is lacking, at the least cost.

@@ -35,14 +35,13 @@ def strictest_nights(lows, highs, turns):
     return found
 
 
-def network_of(spans, costs, turns):
-    """A node for each turn, and an arc for each span, chosen if it costs less than nothing."""
+def network_of(spans, costs, flags, turns):
+    """A node for each turn, and an arc for each span, with flow if it has the flag 1."""
     places = {night: place for place, night in enumerate(turns)}
     network = Network(len(turns))
-    for span, cost in zip(spans, costs):
+    for span, cost, flag in zip(spans, costs, flags):
         tail = places[span[0]]
         head = places[span[1]]
-        flag = 1 if cost < 0 else 0
         network.add_arcs(tail, head, cost, 1 - flag, flag)
         network.flow_in(tail, head, flag)
     return network
@@ -90,8 +89,10 @@ def least_choice(lows, highs, spans, costs):
     for k, (low, high) in enumerate(bounds):
         if low > high:
             return Choice(None, None, None, None, [strictest[k][0]], [strictest[k][1]])
-    network = network_of(spans, costs, turns)
-    covers = covers_of(size, spans, [1 if cost < 0 else 0 for cost in costs])
+    # Without any prices of nights, just the spans that cost less than nothing are worth it.
+    flags = [1 if cost < 0 else 0 for cost in costs]
+    network = network_of(spans, costs, flags, turns)
+    covers = covers_of(size, spans, flags)
     add_ways_back(network, bounds, [covers[night] for night in turns[:-1]])
     reached = network.settle()
     if reached is None:

@@ -20,6 +20,12 @@ class TestChecks(Case):
             self.assertIs(checks.is_name(value), False, value)
             self.refuse(BadName, (value,), checks.want_name, value)
 
+    def test_figures(self):
+        for text in ("0", "0123456789"):
+            self.assertIs(checks.are_figures(text), True)
+        for text in ("", " ", "-1", "1a", "\u0661", "\u00b2", "1.0", "1_0"):
+            self.assertIs(checks.are_figures(text), False)
+
     def test_sequences(self):
         self.assertTrue(checks.is_sequence([]) and checks.is_sequence((1,)))
         for value in NO_SEQUENCES:

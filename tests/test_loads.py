@@ -2,7 +2,7 @@
 
 from random import Random
 
-from keptnights.loads import first_over, load, load_row, load_steps, nights_sold, over_spans, peak
+from keptnights.loads import first_over, load, load_row, load_steps, nights_sold, over_spans, peak, sums_before
 from tests.support import Case, random_span
 
 
@@ -48,6 +48,10 @@ class TestLoads(Case):
         self.assertEqual(self.ask(over_spans, spans, 1), ((36524, 36525),))
         self.assertEqual(load_row(spans, 36523, 36525), (1, 2))
         self.assertEqual(sum(load_row(spans, 0, 36525)), nights_sold(spans))
+
+    def test_sums_before_nights(self):
+        self.assertEqual(sums_before((3, 0, -1)), [0, 3, 3, 2])
+        self.assertEqual(sums_before([]), [0])
 
     def test_many_spans(self):
         spans = [(k, k + 300) for k in range(20000)]
