@@ -19,6 +19,7 @@ NO_NAMES = set("""mro elements open input law version_info with_traceback add_no
     locals methodcaller os quit setattr super type vars sys""".split())
 NO_WORDS = set("""type typing typing_extensions enum Enum IntEnum StrEnum Flag IntFlag Generic Protocol ABC ABCMeta
     namedtuple NamedTuple TypedDict TYPE_CHECKING abstractmethod dataclass overload contextmanager""".split())
+# LANGUAGE.md allows some of these under conditions; the package has needed none of them so far.
 NODES = (ast.AsyncFunctionDef, ast.AsyncFor, ast.AsyncWith, ast.Await, ast.Yield, ast.YieldFrom, ast.GeneratorExp,
          ast.SetComp, ast.Set, ast.Global, ast.Nonlocal, ast.Div, ast.MatMult, ast.Starred, ast.Try, ast.With, ast.Match,
          ast.NamedExpr, ast.AnnAssign, ast.Import, ast.Lambda, ast.Assert, ast.Delete)
