@@ -81,10 +81,20 @@ def want_sequence(value):
         raise BadItem(None)
 
 
+def first_wrong(marks):
+    """The index of the first mark that is False, None if there is none."""
+    # Operators run this, so no method may be called by a name that is also an attribute: no index().
+    for place, mark in enumerate(marks):
+        if not mark:
+            return place
+    return None
+
+
 def want_right(marks, limit):
     """Raise BadItem for the first item that is marked False, then TooMany for more than the limit."""
-    if not all(marks):
-        raise BadItem(marks.index(False))
+    place = first_wrong(marks)
+    if place is not None:
+        raise BadItem(place)
     if len(marks) > limit:
         raise TooMany(limit)
 
