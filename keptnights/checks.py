@@ -38,6 +38,13 @@ def are_ascending(numbers):
     return all([numbers[k] < numbers[k + 1] for k in range(len(numbers) - 1)])
 
 
+def are_different_below(value, size):
+    """Whether a value is a sequence of different whole numbers from 0 to size - 1."""
+    if not is_sequence(value) or not are_between(value, len(value), 0, size - 1):
+        return False
+    return len({number: True for number in value}) == len(value)
+
+
 def are_figures(text):
     """Whether a text has at least one figure, and nothing else."""
     return len(text) > 0 and all([sign in FIGURES for sign in text])
@@ -114,6 +121,6 @@ def first_twice(names):
     return None
 
 
-def tuple_or_none(value):
-    """A sequence as a tuple; None stays None."""
-    return None if value is None else tuple(value)
+def as_tuples(value):
+    """A value with a tuple in the place of each sequence, at every level; what is none stays as it is."""
+    return tuple([as_tuples(item) for item in value]) if is_sequence(value) else value

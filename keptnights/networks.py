@@ -41,9 +41,9 @@ class Network:
         self.excess[tail] -= many
         self.excess[head] += many
 
-    def nearest(self):
-        """How far each node is from the nearest excess, and the last arcs of the ways there."""
-        far = {node: 0 for node in range(len(self.excess)) if self.excess[node] > 0}
+    def nearest(self, starts):
+        """How far each node is from the nearest start, and the last arcs of the ways there."""
+        far = {node: 0 for node in starts}
         last = {}
         queue = [(0, node) for node in far]
         while len(queue) > 0:
@@ -59,6 +59,11 @@ class Network:
                         last[head] = arc
                         heappush(queue, (reach, head))
         return far, last
+
+    def costs_from(self, start):
+        """By the nodes that a start reaches, what it costs at least to push flow there."""
+        far, _ = self.nearest([start])
+        return {node: far[node] + self.prices[node] - self.prices[start] for node in far}
 
     def raise_prices(self, far):
         """Let the prices show the shortest ways as ways without any loss."""
@@ -86,7 +91,7 @@ class Network:
         Returns None, or, if that cannot be done, the nodes that the excess can reach.
         """
         while max(self.excess) > 0:
-            far, last = self.nearest()
+            far, last = self.nearest([node for node in range(len(self.excess)) if self.excess[node] > 0])
             lacking = [node for node in far if self.excess[node] < 0]
             if len(lacking) == 0:
                 return far

@@ -1,6 +1,7 @@
 """Choices of whole stays within bounds, papers that show them least, and cuts that bar them."""
 
-from keptnights.checks import are_ascending, are_between, is_row, is_sequence, is_whole, tuple_or_none
+from keptnights.checks import are_ascending, are_between, are_different_below, as_tuples, is_row, is_sequence
+from keptnights.checks import is_whole
 from keptnights.loads import sums_before
 from keptnights.networks import Network, covers_of
 from keptnights.spans import turning_nights
@@ -10,12 +11,12 @@ class Choice:
     """A least choice with its cost and a paper, or a cut; the other fields are None."""
 
     def __init__(self, chosen, cost, ups, downs, plus, minus):
-        self.chosen = tuple_or_none(chosen)
+        self.chosen = as_tuples(chosen)
         self.cost = cost
-        self.ups = tuple_or_none(ups)
-        self.downs = tuple_or_none(downs)
-        self.plus = tuple_or_none(plus)
-        self.minus = tuple_or_none(minus)
+        self.ups = as_tuples(ups)
+        self.downs = as_tuples(downs)
+        self.plus = as_tuples(plus)
+        self.minus = as_tuples(minus)
 
 
 def flags_of(size, chosen):
@@ -55,9 +56,24 @@ def add_ways_back(network, bounds, covers):
         network.flow_in(k + 1, k, back)
 
 
+def network_within(bounds, spans, costs, turns):
+    """The network of spans and of ways back within the bounds of the parts between turns."""
+    # Without any prices of nights, just the spans that cost less than nothing are worth it.
+    flags = [1 if cost < 0 else 0 for cost in costs]
+    network = network_of(spans, costs, flags, turns)
+    covers = covers_of(turns[-1], spans, flags)
+    add_ways_back(network, bounds, [covers[night] for night in turns[:-1]])
+    return network
+
+
+def is_led_on(network, index):
+    """Whether a network leads flow along the arc of the span with this index."""
+    return network.spare[2 * index] == 0
+
+
 def paper_of(network, spans, costs, strictest, size):
     """The Choice of a network that has settled, with a paper by nights below size."""
-    chosen = [index for index in range(len(spans)) if network.spare[2 * index] == 0]
+    chosen = [index for index in range(len(spans)) if is_led_on(network, index)]
     ups = [0] * size
     downs = [0] * size
     for k, (low_night, high_night) in enumerate(strictest):
@@ -89,11 +105,7 @@ def least_choice(lows, highs, spans, costs):
     for k, (low, high) in enumerate(bounds):
         if low > high:
             return Choice(None, None, None, None, [strictest[k][0]], [strictest[k][1]])
-    # Without any prices of nights, just the spans that cost less than nothing are worth it.
-    flags = [1 if cost < 0 else 0 for cost in costs]
-    network = network_of(spans, costs, flags, turns)
-    covers = covers_of(size, spans, flags)
-    add_ways_back(network, bounds, [covers[night] for night in turns[:-1]])
+    network = network_within(bounds, spans, costs, turns)
     reached = network.settle()
     if reached is None:
         return paper_of(network, spans, costs, strictest, size)
@@ -152,17 +164,10 @@ def paper_value(lows, highs, spans, costs, ups, downs):
     return lower - upper + sum([min(0, rest) for rest in rests_of_costs(spans, costs, ups, downs)])
 
 
-def are_different_nights(value, size):
-    """Whether a value is a row of different nights below size."""
-    if not is_sequence(value) or not are_between(value, len(value), 0, size - 1):
-        return False
-    return len({night: True for night in value}) == len(value)
-
-
 def is_cut(lows, highs, spans, plus, minus):
     """Whether any values are a cut."""
     size = len(lows)
-    if not are_different_nights(plus, size) or not are_different_nights(minus, size):
+    if not are_different_below(plus, size) or not are_different_below(minus, size):
         return False
     needed = sum([lows[night] for night in plus]) - sum([highs[night] for night in minus])
     # Each span gives at most its nights in plus less its nights in minus.

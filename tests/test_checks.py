@@ -65,6 +65,17 @@ class TestChecks(Case):
         spans.pop()
         self.assertEqual(copied, ((0, 1), (1, 2)))
 
+    def test_tuples_at_every_level(self):
+        self.assertEqual(checks.as_tuples([1, [2, ([3], None)], {4: [5]}]), (1, (2, ((3,), None)), {4: [5]}))
+        for value in (None, 3, "ab", ()):
+            self.assertIs(checks.as_tuples(value), value)
+
+    def test_different_numbers(self):
+        for value in ([], (), [2, 0], (0, 1, 2)):
+            self.assertIs(checks.are_different_below(value, 3), True)
+        for value in ([0, 0], (0, 3), [-1], [True], ["0"], [None], [[0]], "01", None, 3, {0: 1}):
+            self.assertIs(checks.are_different_below(value, 3), False)
+
     def test_the_first_name_that_stands_twice(self):
         for names, first in (([], None), (["a", "b"], None), (["a", "b", "b"], "b"), (["a", "b", "b", "a"], "a")):
             self.assertEqual(checks.first_twice(names), first)

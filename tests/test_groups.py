@@ -1,23 +1,14 @@
 """Point 21: groups."""
 
-from itertools import combinations, product
+from itertools import product
 from random import Random
 
 from keptnights.errors import BadItem, BadName, BadNumber, TooMany
 from keptnights.groups import Group, is_coming, stays_of
 from tests.support import ANYTHING, NO_NAMES, NO_NUMBERS, NO_SEQUENCES, NO_SPANS, Case, random_span
+from tests.trials import all_comers
 
 SPANS = ((0, 2), (1, 3), (2, 5))
-
-
-def courses(group):
-    """All courses of a group by the words of the point."""
-    many = len(group.spans)
-    for size in range(group.least, group.most + 1):
-        for some in combinations(range(many), size):
-            for more in product(range(group.late_nights + 1), repeat=size):
-                if sum(nights > 0 for nights in more) <= group.late_guests:
-                    yield tuple(zip(some, more))
 
 
 def guests_at(group, pairs, night):
@@ -59,23 +50,23 @@ class TestGroups(Case):
         spans.append([5, 6])
         self.assertEqual(group.spans, ((0, 2), (1, 3)))
 
-    def test_the_worst_of_all_courses(self):
+    def test_the_worst_of_all_comers(self):
         for group in self.random_groups(150):
             for night in range(9):
                 there = tuple(k for k, span in enumerate(group.spans) if span[0] <= night < span[1])
                 self.assertEqual(self.ask(group.there, night), there)
                 on = tuple(k for k, span in enumerate(group.spans) if span[1] <= night < span[1] + group.late_nights)
                 self.assertEqual(self.ask(group.staying_on, night), on)
-                worst = max(guests_at(group, pairs, night) for pairs in courses(group))
+                worst = max(guests_at(group, pairs, night) for pairs in all_comers(group))
                 self.assertEqual(self.ask(group.worst, night), worst)
                 comers = self.ask(group.worst_comers, night)
-                self.assertIn(comers, list(courses(group)))
+                self.assertIn(comers, list(all_comers(group)))
                 self.assertTrue(is_coming(group, comers))
                 self.assertEqual(guests_at(group, comers, night), worst)
 
-    def test_all_small_courses(self):
+    def test_all_small_comers(self):
         for group in (Group("a", SPANS, 1, 2, 1, 2), Group("a", SPANS, 0, 3, 0, 3), Group("a", SPANS, 2, 2, 2, 0)):
-            right = set(courses(group))
+            right = set(all_comers(group))
             pairs = list(product(range(-1, 4), range(-1, 4)))
             for size in range(4):
                 for some in product(pairs, repeat=size):

@@ -40,8 +40,35 @@ FUNCTIONS = {
     "papers": "least_choice(lows, highs, spans, costs) price_of(span, ups, downs) flags_of(size, chosen)"
               " is_choice(lows, highs, spans, chosen) is_paper(lows, highs, spans, costs, chosen, ups, downs)"
               " paper_value(lows, highs, spans, costs, ups, downs) is_cut(lows, highs, spans, plus, minus)",
+    "moving": "movable(stays) least_moves(needs, free, stays) is_least_moves(needs, free, stays, moved, ups, downs)"
+              " is_move_cut(needs, free, stays, plus, minus) moved_covers(size, stays, moved) cost_of(stays, moved)"
+              " needed_more(needs, stays, moved) moved_too_many(free, stays, moved)",
+    "income": "best_requests(rooms, requests) greatest_pay(rooms, requests) pay_for(requests, taken)"
+              " find_room(rooms, requests, taken) is_price_paper(rooms, requests, taken, prices)"
+              " price_bound(rooms, requests, prices) span_price(prices, span) left_rooms(rooms, requests, taken)"
+              " greedy_requests(rooms, requests)",
+    "bids": "bid(rooms, requests, span) pay_without(rooms, requests, index) pay_with(rooms, requests, index)"
+            " sure_requests(rooms, requests) possible_requests(rooms, requests) room_worths(rooms, requests)"
+            " room_losses(rooms, requests) taken_for(rooms, requests, span, pay)"
+            " cheapest_span(rooms, requests, length)",
     "groups": "is_coming(group, pairs) stays_of(group, pairs)",
     "channels": "is_sale(channel, spans)",
+    "courses": "is_course(plan, course) house_spans(plan, course, moved) annex_spans(plan, moved)"
+               " guests_at(plan, course, moved, night) worst_course(plan, night) quiet_course(plan)"
+               " course_rooms(plan, course, moved, choice=0) course_keeps(plan, course, moved)",
+    "verdicts": "verdict(plan) is_shown(plan, answer) first_breach(plan, moved) is_kept(plan, moved)"
+                " breaking_course(plan, moved) least_rooms_for(plan) slack_nights(plan, moved)"
+                " can_still_sell(plan, moved, span)",
+    "sureincome": "gains_of(offers) fees_of(offers) poorest_comers(group, offers) richest_comers(group, offers)"
+                  " pay_if(offers, comers) sure_pay(group, offers) greatest_group_pay(group, offers)"
+                  " pay_spread(group, offers) sure_request(pay, fee) all_sure(groups, offers)"
+                  " least_for(group, offers, wanted)",
+    "bestsure": "best_taking(rooms, groups, offers, requests) group_bid(rooms, groups, offers, requests, group)"
+                " taken_in_all(rooms, groups, offers, requests, number)",
+    "standing": "standing(wire, name) reachable(wire, name) total_rows(wire, rows) book_of(wire)"
+                " first_over_rooms(wire, totals) open_night(wire) breakable_night(wire) sold_total(wire)"
+                " is_oversold(wire) spare_row(wire) told_open(wire, name, table) tell_safely(wire, name, table)"
+                " sell_safely(wire, span) widest_table(wire, name) is_book(wire, book) book_shows(wire, book)",
 }
 
 CLASSES = {
@@ -57,6 +84,13 @@ CLASSES = {
                                                          " worst(night) worst_sales(night) __eq__(other)", ""),
     "plans.Plan": ("(rooms, annex, singles, groups=(), channels=(), upkeep=(), annex_stays=())",
                    "fields() nights() worst(night) annex_load(night) needs() free() stays() __eq__(other)", ""),
+    "moving.Moves": ("(done, moved, cost, ups, downs, plus, minus)", "", ""),
+    "income.Income": ("(taken, pay, prices)", "", ""),
+    "courses.Course": ("(comers, sales)", "__eq__(other)", ""),
+    "verdicts.Verdict": ("(word, moved, cost, ups, downs, plus, minus)", "", ""),
+    "bestsure.Taking": ("(groups, requests, pay, prices)", "", ""),
+    "wires.Wire": ("(rooms, tables)", "state() line(name) tell(name, table) arrive(name) sell(name, span) hear(name)"
+                                      " sell_own(span, many=1) on_the_way(name) __eq__(other)", "names"),
 }
 
 

@@ -6,43 +6,9 @@ from random import Random
 from keptnights.networks import covers_of
 from keptnights.papers import Choice, flags_of, is_choice, is_cut, is_paper, least_choice, paper_value, price_of
 from tests.support import ANYTHING, Case, random_span
+from tests.trials import all_choices, cuts, shows_least, within
 
 FIELDS = ("chosen", "cost", "ups", "downs", "plus", "minus")
-
-
-def cover(spans, chosen, night):
-    return sum(spans[k][0] <= night < spans[k][1] for k in chosen)
-
-
-def within(lows, highs, spans, chosen):
-    return all(lows[night] <= cover(spans, chosen, night) <= highs[night] for night in range(len(lows)))
-
-
-def all_choices(lows, highs, spans):
-    for size in range(len(spans) + 1):
-        for some in combinations(range(len(spans)), size):
-            if within(lows, highs, spans, some):
-                yield some
-
-
-def shows_least(lows, highs, spans, costs, chosen, ups, downs):
-    """Whether rows of prices are a paper, by the words of the point."""
-    for night in range(len(lows)):
-        many = cover(spans, chosen, night)
-        if min(ups[night], downs[night]) < 0 or ups[night] and many != lows[night] or downs[night] and many != highs[night]:
-            return False
-    for k, (first, leave) in enumerate(spans):
-        rest = costs[k] - sum(ups[first:leave]) + sum(downs[first:leave])
-        if rest > 0 and k in chosen or rest < 0 and k not in chosen:
-            return False
-    return True
-
-
-def cuts(lows, highs, spans, plus, minus):
-    """Whether rows of different nights are a cut, by the words of the point."""
-    most = sum(max(0, sum(first <= k < leave for k in plus) - sum(first <= k < leave for k in minus))
-               for first, leave in spans)
-    return sum(lows[k] for k in plus) - sum(highs[k] for k in minus) > most
 
 
 class TestLeastChoice(Case):
