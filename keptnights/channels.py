@@ -1,8 +1,7 @@
 """Channels: at each night they may sell no more than a number, and only stays that are long enough."""
 
 from keptnights.checks import is_between, is_row, is_sequence, is_span
-from keptnights.checks import want_name, want_number, want_right, want_sequence
-from keptnights.errors import BadItem
+from keptnights.checks import want_apart, want_name, want_number, want_right, want_sequence
 from keptnights.loads import load_steps
 from keptnights.spans import has_night, meeting, span_length
 
@@ -20,9 +19,7 @@ def copied_parts(value):
     """The pairs (span, number) of a sequence, ascending and apart, as tuples."""
     want_sequence(value)
     want_right([is_part(item) for item in value], MOST_PARTS)
-    for index in range(1, len(value)):
-        if value[index][0][0] < value[index - 1][0][1]:
-            raise BadItem(index)
+    want_apart([span for span, _ in value])
     return tuple([(tuple(span), number) for span, number in value])
 
 

@@ -106,6 +106,13 @@ def want_right(marks, limit):
         raise TooMany(limit)
 
 
+def want_apart(spans):
+    """Raise BadItem for the first span that begins before the one ahead of it ends."""
+    for index in range(1, len(spans)):
+        if spans[index][0] < spans[index - 1][1]:
+            raise BadItem(index)
+
+
 def copied_spans(value, limit):
     """The spans of a sequence as tuples, at most so many of them."""
     want_sequence(value)

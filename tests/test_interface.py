@@ -69,6 +69,24 @@ FUNCTIONS = {
                 " first_over_rooms(wire, totals) open_night(wire) breakable_night(wire) sold_total(wire)"
                 " is_oversold(wire) spare_row(wire) told_open(wire, name, table) tell_safely(wire, name, table)"
                 " sell_safely(wire, span) widest_table(wire, name) is_book(wire, book) book_shows(wire, book)",
+    "breaking": "gain_steps(line, night) breaking_steps_at(wire, night) breaking_steps(wire) do_step(wire, step)"
+                " breaks(wire, steps)",
+    "resets": "resets_open(rooms, channels) same_wish(limits, sold) drift(limits, sold, unheard)",
+    "tariffs": "percent_off(percents, nights)",
+    "comparing": "difference(one, two, day, nights) steady_from(one, two) weekly_drift(one, two) window(one, two)"
+                 " first_positive(value, drift) dearer_in_window(one, two) first_dearer(one, two)"
+                 " never_dearer(one, two) first_unlike(one, two) greatest_excess(one, two)"
+                 " last_not_dearer(one, two, day) dearer_from(one, two, day) is_dearer(one, two, pair)"
+                 " cheaper_days(one, two, nights)",
+    "splitting": "split_gain(tariff, day, nights, ahead) first_split(tariff) is_split_proof(tariff)"
+                 " cheapest_parts(tariff, day, nights) parts_points(tariff, day, parts)"
+                 " saved_points(tariff, day, nights) proofed(tariff, most) is_subadditive(rows)",
+    "offers": "quotes(offers, span) best_offer(offers, span)",
+    "ways": "cheapest_way(offers, span) offer_named(offers, name) way_cents(offers, way) fills(way, span)"
+            " is_way(offers, span, way) saved_cents(offers, span) first_saving(offers, first, most)",
+    "splits": "floors_of(total, weights) rests_of(total, weights) split_cents(total, weights)"
+              " even_split(total, many) is_split(total, weights, parts) greatest_rest_first(total, weights, parts)",
+    "taxes": "half_up(top, bottom) rounded(top, bottom)",
 }
 
 CLASSES = {
@@ -91,6 +109,13 @@ CLASSES = {
     "bestsure.Taking": ("(groups, requests, pay, prices)", "", ""),
     "wires.Wire": ("(rooms, tables)", "state() line(name) tell(name, table) arrive(name) sell(name, span) hear(name)"
                                       " sell_own(span, many=1) on_the_way(name) __eq__(other)", "names"),
+    "resets.Reset": ("(table)", "tell(table) arrive() sell(span) reachable()", ""),
+    "tariffs.Tariff": ("(week, percents=())", "left(nights) rates(day, nights) points(day, nights) scaled(percent)"
+                                              " __eq__(other)", "steady"),
+    "offers.Offer": ("(name, week, percents=(), seasons=(), free=None, *, least=1, most=60, days=(0, 1, 2, 3, 4, 5, 6))",
+                     "fields() rate(night) rates(span) is_open(span) free_nights(span) rated(span) price(span)"
+                     " __eq__(other)", ""),
+    "taxes.Taxes": ("(night_cents, percent)", "for_nights(many) on(cents) within(cents) net(cents) __eq__(other)", ""),
 }
 
 

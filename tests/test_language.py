@@ -21,7 +21,7 @@ NO_WORDS = set("""type typing typing_extensions enum Enum IntEnum StrEnum Flag I
     namedtuple NamedTuple TypedDict TYPE_CHECKING abstractmethod dataclass overload contextmanager""".split())
 # LANGUAGE.md allows some of these under conditions; the package has needed none of them so far.
 NODES = (ast.AsyncFunctionDef, ast.AsyncFor, ast.AsyncWith, ast.Await, ast.Yield, ast.YieldFrom, ast.GeneratorExp,
-         ast.SetComp, ast.Set, ast.Global, ast.Nonlocal, ast.Div, ast.MatMult, ast.Starred, ast.Try, ast.With, ast.Match,
+         ast.SetComp, ast.Set, ast.Global, ast.Nonlocal, ast.Div, ast.MatMult, ast.Starred, ast.With, ast.Match,
          ast.NamedExpr, ast.AnnAssign, ast.Import, ast.Lambda, ast.Assert, ast.Delete)
 AT_ONCE = {"zip", "enumerate", "reversed"}
 
@@ -110,6 +110,32 @@ class TestLanguage(unittest.TestCase):
             for sign, right in zip(node.ops, node.comparators):
                 if isinstance(sign, (ast.Is, ast.IsNot)):
                     self.assertTrue(isinstance(right, ast.Constant) and right.value in (None, True, False), place)
+
+    def test_only_own_errors_are_caught(self):
+        own = {node.name for node in self.trees["errors"].body if isinstance(node, ast.ClassDef)}
+        for place, node in self.nodes(ast.Try):
+            self.assertFalse(node.finalbody or node.orelse, place)
+            for handler in node.handlers:
+                self.assertTrue(isinstance(handler.type, ast.Name) and handler.type.id in own, place)
+                self.assertIsNone(handler.name, place)
+
+    def test_errors_are_raised_on_the_spot(self):
+        own = {node.name for node in self.trees["errors"].body if isinstance(node, ast.ClassDef)}
+        for place, node in self.nodes(ast.Raise):
+            self.assertIsNone(node.cause, place)
+            self.assertIn(called(node.exc), own, place)
+
+    def test_equality_asks_for_the_class_first(self):
+        for place, node in self.nodes(ast.FunctionDef):
+            if node.name == "__eq__":
+                first = ast.unparse(node.body[0])
+                self.assertRegex(first, r"^(return isinstance\(other, \w+\) and |if not isinstance\(other, \w+\):\n)", place)
+
+    def test_a_name_that_is_a_property_is_nothing_else(self):
+        properties = {node.name for _, node in self.nodes(ast.FunctionDef) if node.decorator_list}
+        stored = {node.attr for _, node in self.nodes(ast.Attribute) if isinstance(node.ctx, ast.Store)}
+        plain = {node.name for _, node in self.nodes(ast.FunctionDef) if not node.decorator_list}
+        self.assertFalse(properties & (stored | plain))
 
     def test_names(self):
         for name, tree in self.trees.items():

@@ -8,7 +8,7 @@ from keptnights.standing import (book_of, book_shows, breakable_night, first_ove
                                  told_open, total_rows, widest_table)
 from keptnights.wires import Wire
 from tests.support import ANYTHING, NO_NUMBERS, Case, random_span, small_spans
-from tests.test_wires import do, random_deed, used_wire
+from tests.test_wires import do, random_deed, random_wire, used_wire
 
 
 def most_sold(tables, sales, nights):
@@ -36,12 +36,7 @@ class TestStanding(Case):
     def random_wires(self, many, seed=29):
         random = Random(seed)
         for _ in range(many):
-            nights, names = random.randint(1, 3), ("web", "fax")[:random.randint(1, 2)]
-            tables = [(name, tuple(random.randint(0, 1) for _ in range(nights))) for name in names]
-            wire = Wire([random.randrange(6) for _ in range(nights)], tables)
-            for _ in range(random.randrange(20)):
-                do(wire, *random_deed(random, names, nights, random.randint(0, 2)))
-            yield wire
+            yield random_wire(random, 3, 5, 19)
 
     def test_against_all_steps_of_the_channels(self):
         seen = {}

@@ -92,6 +92,18 @@ def random_deed(random, names, nights, most=2):
     return word, random.choice(names), what
 
 
+def random_wire(random, most_nights, most_rooms, most_deeds, most_tables=99):
+    """A wire with one or two channels, of which some deeds were done; each has so many tables at most."""
+    nights, names = random.randint(1, most_nights), ("web", "fax")[:random.randint(1, 2)]
+    tables = [(name, tuple(random.randint(0, 1) for _ in range(nights))) for name in names]
+    wire = Wire([random.randint(0, most_rooms) for _ in range(nights)], tables)
+    for _ in range(random.randint(0, most_deeds)):
+        word, name, what = random_deed(random, names, nights, random.randint(0, 3))
+        if word != "tell" or len(wire.state()[2][names.index(name)][1][0]) < most_tables:
+            do(wire, word, name, what)
+    return wire
+
+
 class TestWires(Case):
     def test_against_the_words_of_the_point(self):
         random = Random(28)
