@@ -77,7 +77,7 @@ def fills(way, span):
     """Whether the stays of a way fill a span one after the other."""
     begun = span[0]
     for _, (first, leave) in way:
-        if first != begun or leave <= first:
+        if first != begun:
             return False
         begun = leave
     return begun == span[1]

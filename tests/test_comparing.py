@@ -109,6 +109,13 @@ class TestComparing(Case):
             one, two = Tariff([5, 5, 5, 5, 5, 5, 6], [(nights, 1)]), Tariff([6] * 7, [(nights, 10)])
             self.assertEqual(first_dearer(one, two), first_with(differences(one, two, 200), lambda value: value > 0))
 
+    def test_a_difference_of_one_point(self):
+        one, two = Tariff([1, 0, 0, 0, 0, 0, 0], [(2, 1)]), Tariff([1, 0, 0, 0, 0, 0, 0], [(2, 2)])
+        self.assertEqual((difference(one, two, 0, 2), first_dearer(one, two), first_unlike(two, one)), (1, (2, 0), (2, 0)))
+        self.assertEqual((is_dearer(one, two, (2, 0)), is_dearer(two, one, (2, 0))), (True, False))
+        self.assertEqual((cheaper_days(two, one, 2), cheaper_days(one, two, 2)), ((0, 6), ()))
+        self.assertEqual((never_dearer(one, two), never_dearer(two, one)), (False, True))
+
     def test_differences(self):
         for one, two in self.random_pairs(30):
             for day in range(7):

@@ -91,6 +91,17 @@ class TestSplitting(Case):
                 self.assertTrue(all(saved_points(tariff, day, nights) == 0 for day in range(7) for nights in range(30)))
         self.assertTrue(several > 50)
 
+    def test_ways_that_cost_the_same(self):
+        random = Random(342)
+        ways = {nights: all_parts(nights) for nights in range(9)}
+        for _ in range(120):
+            steps = sorted(random.sample(range(2, 6), random.randint(1, 4)))
+            tariff = Tariff([random.choice((0, 0, 1)) for _ in range(7)], [(k, random.choice((0, 50, 75))) for k in steps])
+            table = points_table(tariff, 9)
+            for nights, day in ((5, 0), (6, 1), (7, 2), (8, 3), (8, 6)):
+                ranked = min((parts_cost(table, day, parts), len(parts), parts) for parts in ways[nights])
+                self.assertEqual(cheapest_parts(tariff, day, nights), (ranked[0], ranked[2]))
+
     def test_long_stays(self):
         for tariff in list(self.random_tariffs(12, 20)):
             most = 120

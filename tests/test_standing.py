@@ -146,6 +146,16 @@ class TestStanding(Case):
         self.assertEqual(standing(wire, "web"), (1, 1, 0))
         self.assertIsNone(widest_table(wire, "web"))
 
+    def test_lists_and_names_of_arguments(self):
+        wires = [Wire((4, 4), [("a", (1, 1))]) for _ in range(2)]
+        self.assertEqual(tell_safely(wires[0], "a", (3, 2)), tell_safely(table=[3, 2], name="a", wire=wires[1]))
+        self.assertIsNone(sell_safely(wires[0], (0, 2)))
+        self.assertIsNone(sell_safely(span=[0, 2], wire=wires[1]))
+        self.assertEqual(wires[0], wires[1])
+        self.assertEqual(spare_row(wires[0]), (0, 1))
+        self.refuse(Refused, ("rooms", 0), sell_safely, span=[0, 2], wire=wires[1])
+        self.refuse(Refused, ("rooms", 1), tell_safely, table=[3, 4], name="a", wire=wires[1])
+
     def test_nothing_given(self):
         wire = Wire([], [])
         self.assertEqual((open_night(wire), breakable_night(wire), is_oversold(wire)), (None, None, False))

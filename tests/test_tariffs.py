@@ -57,7 +57,8 @@ class TestTariffs(Case):
         self.assertEqual((tariff.week, tariff.percents, tariff.steady), (WEEK, PERCENTS, 14))
         tariff = self.ask(Tariff, WEEK)
         self.assertEqual((tariff.week, tariff.percents, tariff.steady), (WEEK, (), 1))
-        Tariff([0] * 7, [(2, 0)]), Tariff([99999] * 7, [(49 + k, 100) for k in range(12)])
+        self.assertEqual(Tariff([0] * 7, [(2, 0)]).steady, 2)
+        self.assertEqual(Tariff([99999] * 7, [(49 + k, 100) for k in range(12)]).steady, 60)
 
     def test_equal(self):
         self.assertTrue(Tariff(WEEK, PERCENTS) == Tariff(list(WEEK), [list(pair) for pair in PERCENTS]))

@@ -147,8 +147,8 @@ class TestVerdicts(Case):
         answers = {True: 0, False: 0}
         for plan in self.random_plans(200):
             for moved in [some for some in movable_sets(plan) if not breaches(plan, some)][:2] + [()]:
-                for first in plan.nights():
-                    span = (first, plan.span[1])
+                nights = plan.nights()
+                for span in [(first, leave + 1) for first in nights for leave in nights if first <= leave]:
                     more = Plan(plan.rooms, plan.annex, list(plan.singles) + [("new", span, None)], plan.groups,
                                 plan.channels, plan.upkeep, plan.annex_stays)
                     answer = self.ask(can_still_sell, plan, moved, span)

@@ -95,6 +95,7 @@ class TestWays(Case):
     def test_the_end_of_the_calendar(self):
         offers = [Offer("a", [9] * 7, free=None), Offer("b", [5] * 7, least=2, most=2)]
         self.assertEqual(first_saving(offers, 36520, 60), (36520, 36523))
+        self.assertEqual(first_saving(offers, 36522, 60), (36522, 36525))
         self.assertIsNone(first_saving(offers, 36523, 60))
         self.assertEqual(cheapest_way(offers, (36521, 36525)), (20, (("b", (36521, 36523)), ("b", (36523, 36525)))))
 
