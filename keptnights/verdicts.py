@@ -1,6 +1,6 @@
 """Verdicts: whether a plan is kept in every course, and what shows that it is or that it is not."""
 
-from keptnights.checks import as_tuples, is_whole
+from keptnights.checks import as_tuples, is_sequence, is_whole
 from keptnights.courses import quiet_course, worst_course
 from keptnights.moving import cost_of, is_least_moves, is_move_cut, least_moves, moved_covers
 
@@ -8,7 +8,7 @@ from keptnights.moving import cost_of, is_least_moves, is_move_cut, least_moves,
 class Verdict:
     """The singles that move at the least cost with a paper, or a cut; the other fields are None.
 
-    Papers and cuts are by the nights of the plan, counted from its first one, like stays().
+    Ups and downs are rows by the nights of the plan; plus and minus tell its nights themselves.
     """
 
     def __init__(self, word, moved, cost, ups, downs, plus, minus):
@@ -21,11 +21,25 @@ class Verdict:
         self.minus = as_tuples(minus)
 
 
+def nights_at(plan, places):
+    """The nights of a plan at these places of its rows."""
+    nights = plan.nights()
+    return [nights[place] for place in places]
+
+
+def places_at(plan, nights):
+    """The places of nights in the rows of a plan, None for what is no row of whole numbers."""
+    if plan.span is None or not is_sequence(nights) or not all([is_whole(night) for night in nights]):
+        return None
+    return [night - plan.span[0] for night in nights]
+
+
 def verdict(plan):
     """Whether a plan can be kept, and what shows it."""
     found = least_moves(plan.needs(), plan.free(), plan.stays())
-    word = "kept" if found.done else "cut"
-    return Verdict(word, found.moved, found.cost, found.ups, found.downs, found.plus, found.minus)
+    if found.done:
+        return Verdict("kept", found.moved, found.cost, found.ups, found.downs, None, None)
+    return Verdict("cut", None, None, None, None, nights_at(plan, found.plus), nights_at(plan, found.minus))
 
 
 def is_shown(plan, answer):
@@ -34,7 +48,7 @@ def is_shown(plan, answer):
     free = plan.free()
     stays = plan.stays()
     if answer.word == "cut":
-        return is_move_cut(needs, free, stays, answer.plus, answer.minus)
+        return is_move_cut(needs, free, stays, places_at(plan, answer.plus), places_at(plan, answer.minus))
     if answer.word != "kept" or not is_whole(answer.cost):
         return False
     if not is_least_moves(needs, free, stays, answer.moved, answer.ups, answer.downs):

@@ -83,15 +83,25 @@ class TestVerdicts(Case):
                 self.assertTrue(shows_least(plan.needs(), plan.free(), spans, prices, chosen, found.ups, found.downs))
             else:
                 self.assertEqual(values_of(found)[1:5], [None] * 4)
-                self.assertTrue(cuts(plan.needs(), plan.free(), spans, found.plus, found.minus))
+                self.assertLessEqual(set(found.plus + found.minus), set(plan.nights()))
+                plus, minus = [[night - plan.span[0] for night in row] for row in (found.plus, found.minus)]
+                self.assertTrue(cuts(plan.needs(), plan.free(), spans, plus, minus))
         self.assertTrue(min(words.values()) > 50)
 
-    def test_papers_and_cuts_count_from_the_first_night(self):
+    def test_papers_are_rows_and_cuts_are_nights_of_the_plan(self):
         random = Random(250)
-        for _ in range(60):
+        words = {"kept": 0, "cut": 0}
+        for _ in range(120):
             plan = random_plan(random)
-            later = later_plan(plan, 100)
-            self.assertEqual(values_of(verdict(plan)), values_of(verdict(later)))
+            found, later = verdict(plan), verdict(later_plan(plan, 100))
+            words[found.word] += 1
+            self.assertEqual(values_of(found)[:5], values_of(later)[:5])
+            if found.word == "cut":
+                self.assertEqual(later.plus, tuple(night + 100 for night in found.plus))
+                self.assertEqual(later.minus, tuple(night + 100 for night in found.minus))
+                self.assertIs(is_shown(plan, later), False)
+                self.assertIs(is_shown(later_plan(plan, 100), found), False)
+        self.assertTrue(min(words.values()) > 20)
 
     def test_the_first_breach(self):
         seen = {}
@@ -225,10 +235,26 @@ class TestIsShown(Case):
         for plus in subsets(3):
             for minus in subsets(3):
                 right = cuts((0, 3, 1), (1, 1, 0), [(0, 3), (1, 2)], plus, minus)
-                self.assertIs(self.shown(plan, "cut", None, None, None, None, plus, minus), right)
-                self.assertIs(self.shown(plan, "kept", None, None, None, None, plus, minus), False)
+                nights = [[place + 4 for place in row] for row in (plus, minus)]
+                self.assertIs(self.shown(plan, "cut", None, None, None, None, *nights), right)
+                self.assertIs(self.shown(plan, "kept", None, None, None, None, *nights), False)
                 found += right
         self.assertTrue(found)
-        for wrong in ((5,), (1, 1), (-1,), (1, 3), None):
+        self.assertIs(self.shown(plan, "cut", None, None, None, None, (5,), (4,)), True)
+        for wrong in ((1,), (5, 5), (3,), (5, 7), (-1,), (True,), None):
             self.assertIs(self.shown(plan, "cut", None, None, None, None, wrong, ()), False)
-            self.assertIs(self.shown(plan, "cut", None, None, None, None, (1,), wrong), False)
+            self.assertIs(self.shown(plan, "cut", None, None, None, None, (5,), wrong), False)
+
+    def test_cuts_with_singles_that_can_and_that_cannot_move(self):
+        for start in (0, 1, 7, 36000):
+            stuck = Plan(1, 5, [("a", (start, start + 2), None), ("b", (start + 1, start + 3), None)])
+            self.assertEqual((verdict(stuck).plus, is_shown(stuck, verdict(stuck))), ((start + 1,), True))
+            full = Plan(0, 1, [("a", (start, start + 2), 4), ("b", (start + 1, start + 3), 4)])
+            for plus in ((start,), (start + 1,), (start + 2,), (start - 1,), (1 - start,)):
+                self.assertIs(self.shown(full, "cut", None, None, None, None, plus, ()), False)
+                self.assertIs(self.shown(full, "cut", None, None, None, None, plus, plus), plus == (start + 1,))
+            self.assertIs(is_shown(full, verdict(full)), True)
+
+    def test_a_plan_without_nights_has_no_cut(self):
+        for row in ((), (0,), [5], None):
+            self.assertIs(self.shown(Plan(0, 0, []), "cut", None, None, None, None, row, ()), False)
