@@ -2,6 +2,7 @@
 
 import importlib
 import inspect
+import re
 
 from tests.support import Case
 
@@ -87,6 +88,16 @@ FUNCTIONS = {
     "splits": "floors_of(total, weights) rests_of(total, weights) split_cents(total, weights)"
               " even_split(total, many) is_split(total, weights, parts) greatest_rest_first(total, weights, parts)",
     "taxes": "half_up(top, bottom) rounded(top, bottom)",
+    "events": "is_event(value) want_event(value) minute_of(event) last_told(events, word) voided(events)"
+              " standing_events(events, word)",
+    "bills": "state_of(folio) stay_of(folio) span_stayed(folio) price_of_nights(offer, span) stay_lines(rules, folio)"
+             " penalty_lines(rules, folio) charge_lines(folio) shares_of(folio) paid_sum(folio) bill(rules, folio)"
+             " paid_by(folio) owed_by(rules, folio)",
+    "daily": "gathered(pairs) daily(rules, folio) daily_of(rules, folios) on_day(pairs, day) up_to(pairs, day)",
+    "shares": "are_quotas(value, rooms, size) incomes_from(pays, quotas) is_less(one, two) lowest(top, bottom)"
+              " class_shares(rooms, pays, quotas) share_of(rooms, pays, quotas) best_quotas(rooms, pays)"
+              " best_share(rooms, pays) worst_arrivals(rooms, pays, quotas)",
+    "frontdesk": "run_course(plan, course, moved, wishes=()) rooms_in_log(log)",
 }
 
 CLASSES = {
@@ -116,13 +127,24 @@ CLASSES = {
                      "fields() rate(night) rates(span) is_open(span) free_nights(span) rated(span) price(span)"
                      " __eq__(other)", ""),
     "taxes.Taxes": ("(night_cents, percent)", "for_nights(many) on(cents) within(cents) net(cents) __eq__(other)", ""),
+    "policies.Policy": ("(steps, late, absent)", "fields() nights_charged(minute, first) penalty(rates, nights) is_mild()"
+                                                 " __eq__(other)", ""),
+    "folios.Folio": ("(events=())", "tell(event) joined(other) is_part_of(other) until(minute) after(other) clash(other)"
+                                    " __len__() __iter__() __contains__(x) __eq__(other)", "events"),
+    "bills.Bill": ("(lines, paid, shares)", "fields() __eq__(other)", ""),
+    "bills.Rules": ("(offers, policy, taxes)", "", ""),
+    "audits.Audit": ("(rules)", "posted(day) posted_days() differences(day, folios) close(day, folios) is_square(folios)"
+                                " corrections() report(closing) total() __len__()", "entries closed days_closed"),
+    "gates.Gate": ("(rooms, pays, quotas)", "state() lets_in(number) ask(number) ask_all(numbers) income() best_income()"
+                                            " share() is_sure() free() __eq__(other)", ""),
+    "frontdesk.FrontDesk": ("(rooms, night=0)", "free() room_of(guest) arrive(guest, room=None) leave(guest) end_night()"
+                                                " __len__() __contains__(x)", "log"),
 }
 
 
 def forms_of(text):
-    """The names and parameters of a text like `one(a, b) two(c=0)`."""
-    return [(form[:form.index("(")], form[form.index("("):] + ")") for form in text.split(")")[:-1]
-            for form in [form.strip()]]
+    """The names and parameters of a text like `one(a, b=()) two(c=0)`."""
+    return re.findall(r"(\w+)(\((?:[^()]|\(\))*\))", text)
 
 
 def module_of(name):

@@ -7,7 +7,8 @@ import re
 import unittest
 
 PACKAGE = pathlib.Path(__file__).resolve().parent.parent / "keptnights"
-LIBRARY = {"heapq": {"heappush", "heappop", "heapify", "heapreplace", "heappushpop"}}
+LIBRARY = {"heapq": {"heappush", "heappop", "heapify", "heapreplace", "heappushpop"},
+           "math": {"gcd", "lcm", "isqrt", "comb", "perm", "factorial"}}
 BUILTINS = set("""len range enumerate zip min max sum abs sorted reversed int str bool list tuple dict set isinstance
     ord repr any all divmod iter property ValueError""".split())
 METHODS = set("""append clear copy count endswith extend find get index insert isalnum isalpha isdigit islower isspace
@@ -94,9 +95,17 @@ class TestLanguage(unittest.TestCase):
 
     def test_module_level(self):
         for name, tree in self.trees.items():
+            above = set()
             for node in tree.body:
                 text = isinstance(node, ast.Expr) and node is tree.body[0]
-                if isinstance(node, ast.Assign):
+                if isinstance(node, ast.FunctionDef):
+                    above.add(node.name)
+                # A table may have functions that are defined above it among its values.
+                if isinstance(node, ast.Assign) and isinstance(node.value, ast.Dict):
+                    for key, value in zip(node.value.keys, node.value.values):
+                        ast.literal_eval(key)
+                        self.assertTrue(value.id in above if isinstance(value, ast.Name) else ast.literal_eval(value), name)
+                elif isinstance(node, ast.Assign):
                     ast.literal_eval(node.value)
                 self.assertTrue(text or isinstance(node, (ast.ImportFrom, ast.FunctionDef, ast.ClassDef, ast.Assign)), name)
 
