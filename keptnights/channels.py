@@ -59,8 +59,10 @@ class Channel:
     def worst(self, night):
         """The greatest number of stays with a night that can be sold together."""
         stay = self.least_stay
-        sums = [self.back(night, k) + self.ahead(night, stay - k) for k in range(1, stay)]
-        return min([self.at(night)] + sums)
+        row = numbers_within(self.counts, (night - stay + 1, night + stay))
+        backs = running_least(row[:stay][::-1])
+        aheads = running_least(row[stay - 1:])
+        return min([backs[0]] + [backs[k] + aheads[stay - k] for k in range(1, stay)])
 
     def worst_sales(self, night):
         """Ascending spans that can be sold together, as many with a night as there can be."""
@@ -73,6 +75,25 @@ class Channel:
         for k in reversed(range(stay)):
             sales.extend([(night - k, night - k + stay)] * (early[k] - early[k + 1]))
         return tuple(sales)
+
+
+def numbers_within(counts, span):
+    """The numbers of the nights of a span, by the parts of a channel."""
+    row = [0] * span_length(span)
+    for part, number in counts:
+        common = meeting(part, span)
+        if common is not None:
+            for night in range(common[0], common[1]):
+                row[night - span[0]] = number
+    return row
+
+
+def running_least(row):
+    """For each item the least one of it and of all ahead of it."""
+    least = []
+    for number in row:
+        least.append(min(number, least[-1]) if len(least) > 0 else number)
+    return least
 
 
 def least_number(counts, span):

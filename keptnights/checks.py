@@ -1,6 +1,6 @@
 """What numbers, names, sequences, nights and spans are, and the errors for other values."""
 
-from keptnights.errors import BadItem, BadName, BadNumber, TooMany
+from keptnights.errors import BadItem, BadName, BadNumber, BadSpan, TooMany
 
 LAST_NIGHT = 36524
 FIGURES = "0123456789"
@@ -80,6 +80,12 @@ def want_name(value):
     """Raise BadName unless a value is a name."""
     if not is_name(value):
         raise BadName(value)
+
+
+def want_span(value):
+    """Raise BadSpan unless a value is a span."""
+    if not is_span(value):
+        raise BadSpan(value)
 
 
 def want_sequence(value):

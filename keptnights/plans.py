@@ -15,11 +15,14 @@ MOST_OBJECTS = 8
 MOST_NIGHTS = 90
 
 
+def is_cost(value):
+    """Whether a value is the cost of a stay that can move, or None."""
+    return value is None or is_between(value, 0, MOST_COST)
+
+
 def is_single(value):
     """Whether a value is a triple (name, span, cost) of a single stay."""
-    if not is_row(value, 3) or not is_name(value[0]) or not is_span(value[1]):
-        return False
-    return value[2] is None or is_between(value[2], 0, MOST_COST)
+    return is_row(value, 3) and is_name(value[0]) and is_span(value[1]) and is_cost(value[2])
 
 
 def copied_singles(value):
@@ -139,3 +142,16 @@ class Plan:
     def stays(self):
         """The pairs (span, cost) of the single stays, counted from the first night of the plan."""
         return tuple([(counted_from(span, self.span[0]), cost) for _, span, cost in self.singles])
+
+
+def changed_plan(plan, singles=None, groups=None, channels=None, upkeep=None, annex_stays=None):
+    """A plan of the same rooms, with what is passed in the place of what it has."""
+    return Plan(
+        plan.rooms,
+        plan.annex,
+        plan.singles if singles is None else singles,
+        plan.groups if groups is None else groups,
+        plan.channels if channels is None else channels,
+        plan.upkeep if upkeep is None else upkeep,
+        plan.annex_stays if annex_stays is None else annex_stays,
+    )

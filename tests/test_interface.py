@@ -98,6 +98,20 @@ FUNCTIONS = {
               " class_shares(rooms, pays, quotas) share_of(rooms, pays, quotas) best_quotas(rooms, pays)"
               " best_share(rooms, pays) worst_arrivals(rooms, pays, quotas)",
     "frontdesk": "run_course(plan, course, moved, wishes=()) rooms_in_log(log)",
+    "whatif": "is_good(plan) with_rooms(plan, rooms, annex) most_wanted(plan) least_house(plan) least_annex(plan)"
+              " with_group(plan, name, group) with_channel(plan, name, channel) bounded(group, most)"
+              " greatest_most(plan, name) capped(channel, most) greatest_cap(plan, name) without_single(plan, index)"
+              " relieving_singles(plan)",
+    "relief": "common_nights(one, other) needs_at(plan, nights) spare_at(plan, nights) relief_to(one, other)",
+    "waiting": "taken_in_turn(rooms, spans)",
+    "trials": "tried(house, deeds) batched(house, deeds)",
+    "histories": "replayed(rooms, annex, journal)",
+    "notes": "format_plan(plan) parse_plan(text)",
+    "foliotexts": "format_folio(folio) parse_folio(text)",
+    "reports": "arrivals_at(spans, night) departures_at(spans, night) staying_at(spans, night)"
+               " night_row(spans, rooms, night) report(spans, rooms, first, leave) course_report(plan, course, moved)"
+               " occupancy(spans, rooms, first, leave) is_balanced(spans, night) worst_rows(plan)"
+               " house_lists(plan, course, moved, night) fullest_nights(spans, rooms, first, leave)",
 }
 
 CLASSES = {
@@ -139,6 +153,17 @@ CLASSES = {
                                             " share() is_sure() free() __eq__(other)", ""),
     "frontdesk.FrontDesk": ("(rooms, night=0)", "free() room_of(guest) arrive(guest, room=None) leave(guest) end_night()"
                                                 " __len__() __contains__(x)", "log"),
+    "relief.Relief": ("(moved, cost, ups, downs, plus, minus)", "", ""),
+    "relief.Chain": ("()", "add_house(name, plan) plan_of(name) takers(span) reliefs(name) best_relief(name)", "names"),
+    "waiting.WaitingList": ("(rooms)", "ask(name, span) give_up(name) inside() waiting() free_at(night) place(name)"
+                                       " barred_by(name) __len__()", "names"),
+    "houses.House": ("(rooms, annex)", "verdict() moved() cost() sell(name, span, cost=None) bring(group)"
+                                       " open_channel(channel) keep_up(span) cancel(name) lend(span)"
+                                       " could_sell(span, cost=None) __contains__(x)", "plan names"),
+    "trials.Trial": ("(house)", "__enter__() __exit__(kind, value, trace)", ""),
+    "trials.Batch": ("(house)", "__enter__() __exit__(kind, value, trace)", ""),
+    "histories.History": ("(rooms, annex)", "do(deed) undo() redo() __len__()", "deeds journal"),
+    "desks.Desk": ("(rooms, annex)", "execute(command) execute_all(commands)", "present_house log"),
 }
 
 

@@ -14,7 +14,8 @@ BUILTINS = set("""len range enumerate zip min max sum abs sorted reversed int st
 METHODS = set("""append clear copy count endswith extend find get index insert isalnum isalpha isdigit islower isspace
     isupper items join keys ljust lower lstrip partition pop remove replace reverse rfind rjust rpartition rsplit rstrip
     setdefault split splitlines startswith strip update upper values zfill bit_length""".split())
-DUNDERS = set("""__init__ __eq__ __repr__ __str__ __len__ __iter__ __contains__ __or__ __and__ __sub__""".split())
+DUNDERS = set("""__init__ __eq__ __repr__ __str__ __len__ __iter__ __contains__ __or__ __and__ __sub__ __enter__
+    __exit__""".split())
 NO_NAMES = set("""mro elements open input law version_info with_traceback add_note register attrgetter breakpoint
     builtins compile copyright credits delattr dir eval exec exit gc getattr globals hasattr help id importlib license
     locals methodcaller os quit setattr super type vars sys""".split())
@@ -22,7 +23,7 @@ NO_WORDS = set("""type typing typing_extensions enum Enum IntEnum StrEnum Flag I
     namedtuple NamedTuple TypedDict TYPE_CHECKING abstractmethod dataclass overload contextmanager""".split())
 # LANGUAGE.md allows some of these under conditions; the package has needed none of them so far.
 NODES = (ast.AsyncFunctionDef, ast.AsyncFor, ast.AsyncWith, ast.Await, ast.Yield, ast.YieldFrom, ast.GeneratorExp,
-         ast.SetComp, ast.Set, ast.Global, ast.Nonlocal, ast.Div, ast.MatMult, ast.Starred, ast.With, ast.Match,
+         ast.SetComp, ast.Set, ast.Global, ast.Nonlocal, ast.Div, ast.MatMult, ast.Starred, ast.Match,
          ast.NamedExpr, ast.AnnAssign, ast.Import, ast.Lambda, ast.Assert, ast.Delete)
 AT_ONCE = {"zip", "enumerate", "reversed"}
 
@@ -104,7 +105,10 @@ class TestLanguage(unittest.TestCase):
                 if isinstance(node, ast.Assign) and isinstance(node.value, ast.Dict):
                     for key, value in zip(node.value.keys, node.value.values):
                         ast.literal_eval(key)
-                        self.assertTrue(value.id in above if isinstance(value, ast.Name) else ast.literal_eval(value), name)
+                        if isinstance(value, ast.Name):
+                            self.assertIn(value.id, above, name)
+                        else:
+                            ast.literal_eval(value)
                 elif isinstance(node, ast.Assign):
                     ast.literal_eval(node.value)
                 self.assertTrue(text or isinstance(node, (ast.ImportFrom, ast.FunctionDef, ast.ClassDef, ast.Assign)), name)
@@ -130,9 +134,25 @@ class TestLanguage(unittest.TestCase):
 
     def test_errors_are_raised_on_the_spot(self):
         own = {node.name for node in self.trees["errors"].body if isinstance(node, ast.ClassDef)}
+        handled = {id(node) for _, handler in self.nodes(ast.ExceptHandler) for node in ast.walk(handler)}
         for place, node in self.nodes(ast.Raise):
             self.assertIsNone(node.cause, place)
-            self.assertIn(called(node.exc), own, place)
+            self.assertTrue(called(node.exc) in own or node.exc is None and id(node) in handled, place)
+
+    def test_what_blocks_do_when_they_end(self):
+        made = {name: node for _, tree in self.trees.items() for node in tree.body for name in [getattr(node, "name", None)]}
+        for place, node in self.nodes(ast.With):
+            for item in node.items:
+                methods = {one.name for one in made[called(item.context_expr)].body if isinstance(one, ast.FunctionDef)}
+                self.assertLessEqual({"__enter__", "__exit__"}, methods, place)
+        for place, node in self.nodes(ast.FunctionDef):
+            if node.name == "__exit__":
+                self.assertEqual([arg.arg for arg in node.args.args], ["self", "kind", "value", "trace"], place)
+                for row in ast.walk(node):
+                    if isinstance(row, ast.stmt) and row is not node:
+                        plain = isinstance(row, ast.Assign) and isinstance(row.value, (ast.Attribute, ast.Constant))
+                        asked = isinstance(row, ast.If) and ast.unparse(row.test) == "kind is None"
+                        self.assertTrue(plain or asked, place)
 
     def test_equality_asks_for_the_class_first(self):
         for place, node in self.nodes(ast.FunctionDef):
