@@ -99,11 +99,10 @@ def charge_lines(folio):
 
 
 def nights_of_penalty(policy, folio, first):
-    """How many nights a policy charges for a stay from a night on."""
-    state = state_of(folio)
-    if state == "cancelled":
-        return policy.nights_charged(minute_of(last_told(folio.events, "state")), first)
-    return policy.absent if state == "absent" else 0
+    """How many nights a policy charges for a stay from a night on that was cancelled, or whose guest never came."""
+    if state_of(folio) == "absent":
+        return policy.absent
+    return policy.nights_charged(minute_of(last_told(folio.events, "state")), first)
 
 
 def penalty_lines(rules, folio):

@@ -26,7 +26,7 @@ def are_of_stay(parts):
 
 def are_of_state(parts):
     """Whether the parts behind the word are a state."""
-    return len(parts) == 1 and isinstance(parts[0], str) and parts[0] in STATES
+    return len(parts) == 1 and parts[0] in STATES
 
 
 def are_of_left(parts):

@@ -50,7 +50,7 @@ def read_single(words):
     if len(words) != 3:
         return None
     pair = read_pair(words[1])
-    cost = None if words[2] == "-" else read_number(words[2])
+    cost = read_number(words[2])
     if pair is None or cost is None and words[2] != "-":
         return None
     return (words[0], pair, cost)

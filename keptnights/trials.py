@@ -33,11 +33,10 @@ class Batch:
 
     def __exit__(self, kind, value, trace):
         house = self.house
-        if kind is None:
-            self.stands = True
-        else:
-            house.present = self.before
+        self.stands = True
+        if kind is not None:
             self.stands = False
+            house.present = self.before
 
 
 def moved_behind(house, deeds):

@@ -36,7 +36,7 @@ class TestFolios(Case):
     def test_stamps(self):
         folio = Folio([ONE, TWO])
         self.assertTrue((5, "front") in folio and (5, "bar") in folio)
-        for stamp in ((5, "spa"), (4, "front"), ONE, None, 5, "front", (), (5,)):
+        for stamp in ((5, "spa"), (4, "front"), ONE, None, 5, "front", (), (5,), {}, (5, {}), ({}, "front")):
             self.assertFalse(stamp in folio, stamp)
 
     def test_copies(self):

@@ -2,6 +2,7 @@
 
 from random import Random
 
+from keptnights.channels import Channel
 from keptnights.errors import BadEvent, BadNumber, KeptError, NothingToUndo, Refused, Taken, TooMany, Unknown
 from keptnights.groups import Group
 from keptnights.histories import History, replayed
@@ -131,13 +132,13 @@ class TestHistories(Case):
 
     def test_copies(self):
         history = History(5, 0)
-        group, deed = Group("g", [(0, 1)], 0, 1), ["upkeep", [0, 1]]
-        history.do(("bring", group))
-        history.do(deed)
-        group.name = deed[0] = "other"
+        group, channel, deed = Group("g", [(0, 1)], 0, 1), Channel("c", []), ["upkeep", [0, 1]]
+        for one in (("bring", group), ("open", channel), deed):
+            history.do(one)
+        group.name = channel.name = deed[0] = "other"
         deed[1][1] = 7
-        self.assertEqual((history.deeds[0][1].name, history.deeds[1]), ("g", ("upkeep", (0, 1))))
-        self.assertEqual(history.house.names, ("g",))
+        self.assertEqual([one[1].name for one in history.deeds[:2]], ["g", "c"])
+        self.assertEqual((history.deeds[2], history.house.names), (("upkeep", (0, 1)), ("g", "c")))
 
     def test_replaying(self):
         journal = [ANN, BOB, UNDO, ("bring", HERD), UNDO, REDO, ["undo"]]

@@ -196,6 +196,12 @@ class TestHouses(Case):
         self.refuse(TooMany, (60,), house.lend, (0, 1))
         self.refuse(TooMany, (8,), house.bring, Group("zoe", [(0, 1)], 0, 1))
         self.refuse(TooMany, (8,), house.open_channel, Channel("zoe", [((0, 1), 1)]))
+        # What is taken is told ahead of what is too much.
+        for name in ("new3", "g3", "c3"):
+            self.refuse(Taken, (name,), house.sell, name, (0, 1))
+            self.refuse(Taken, (name,), house.bring, Group(name, [(0, 1)], 0, 1))
+            if name != "c3":
+                self.refuse(Taken, (name,), house.open_channel, Channel(name, []))
         self.assertEqual(state_of(house), before)
         house.cancel("new7")
         self.assertIs(house.could_sell((0, 1), 3), True)
@@ -211,6 +217,15 @@ class TestHouses(Case):
         self.assertEqual((house.moved(), house.cost()), (("ann",), 9))
         self.refuse(Refused, ("cut", 1), house.lend, (0, 1))
         self.assertEqual(house.cancel("bob"), ())
+
+    def test_a_cut_of_several_nights(self):
+        house = House(1, 1)
+        for number, sale in enumerate((((0, 2), 5), ((1, 3), 5), ((0, 1), None))):
+            house.sell(f"n{number}", *sale)
+        shown = verdict(Plan(1, 1, house.plan.singles + (("last", (2, 3), None),)))
+        # Both stays are needed in the annex, one for night 0 and one for night 2, and meet there at night 1.
+        self.assertEqual((shown.plus, shown.minus), ((0, 2), (1,)))
+        self.refuse(Refused, ("cut", 0), house.sell, "last", (2, 3))
 
     def test_copies(self):
         house = House(3, 0)

@@ -151,7 +151,7 @@ class TestLanguage(unittest.TestCase):
                 for row in ast.walk(node):
                     if isinstance(row, ast.stmt) and row is not node:
                         plain = isinstance(row, ast.Assign) and isinstance(row.value, (ast.Attribute, ast.Constant))
-                        asked = isinstance(row, ast.If) and ast.unparse(row.test) == "kind is None"
+                        asked = isinstance(row, ast.If) and ast.unparse(row.test) == "kind is not None" and not row.orelse
                         self.assertTrue(plain or asked, place)
 
     def test_equality_asks_for_the_class_first(self):

@@ -162,6 +162,12 @@ class TestChains(Case):
         self.assertEqual(chain.best_relief("needy"), ("a", (0,), 5))
         self.assertEqual(chain.reliefs("a"), ((0, "b"), (0, "c")))
 
+    def test_a_dearer_relief_behind_a_cheaper_one(self):
+        needy = Plan(1, 0, [("ann", (0, 2), 9), ("bob", (1, 3), 5)])
+        # In the house a there is no room at night 2, so that ann must move.
+        chain = self.chain_of([("needy", needy), ("a", Plan(1, 0, [], upkeep=[(2, 3)])), ("b", Plan(1, 0, []))])
+        self.assertEqual((chain.reliefs("needy"), chain.best_relief("needy")), (((5, "b"), (9, "a")), ("b", (1,), 5)))
+
     def test_names(self):
         chain = self.chain_of([("ox", Plan(2, 0, []))])
         self.refuse(Taken, ("ox",), chain.add_house, "ox", Plan(3, 0, []))

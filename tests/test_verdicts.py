@@ -255,6 +255,17 @@ class TestIsShown(Case):
                 self.assertIs(self.shown(full, "cut", None, None, None, None, plus, plus), plus == (start + 1,))
             self.assertIs(is_shown(full, verdict(full)), True)
 
+    def test_values_that_are_no_whole_numbers(self):
+        plan = Plan(0, 1, [("a", (0, 2), None), ("b", (1, 2), 1), ("c", (1, 2), 1)])
+        self.assertIs(self.shown(plan, "cut", None, None, None, None, (1,), ()), True)
+        for row in ((True,), (1.0,), ("1",), (None,)):
+            self.assertIs(self.shown(plan, "cut", None, None, None, None, row, ()), False)
+        plan = Plan(0, 1, [("a", (0, 1), 1)])
+        found = verdict(plan)
+        for cost in (True, 1.0, "1", None):
+            self.assertIs(self.shown(plan, "kept", (0,), cost, found.ups, found.downs, None, None), False)
+        self.assertIs(self.shown(plan, "kept", (0,), 1, found.ups, found.downs, None, None), True)
+
     def test_a_plan_without_nights_has_no_cut(self):
         for row in ((), (0,), [5], None):
             self.assertIs(self.shown(Plan(0, 0, []), "cut", None, None, None, None, row, ()), False)
